@@ -1,0 +1,75 @@
+"""The interface: each name in its file, with the parameters that the document tells."""
+
+import ast
+import importlib
+import inspect
+import pathlib
+import unittest
+
+FOLDER = pathlib.Path(__file__).resolve().parent.parent / 'dyedpours'
+
+FUNCTIONS = {
+    'moves': {
+        'taken': 'yard number', 'brought': 'yard number', 'meets': 'yard vessel', 'all_spots': 'yard',
+        'still': 'yard spot', 'glass': 'yard number', 'end_of': 'yard spot',
+    },
+    'exchange': {
+        'may_exchange': 'yard number', 'exchanged': 'yard number', 'normal': 'yard', 'same_steps': 'one other',
+        'shows_same_steps': 'one other value', 'joined': 'yard number', 'parted': 'yard number amount',
+    },
+    'mixings': {
+        'judged': 'yard row', 'dye': 'yard row spot', 'stands': 'yard row moment', 'broken': 'yard row',
+        'eager': 'yard', 'shy': 'yard',
+    },
+    'every': {'every': 'yard', 'numbers_of': 'yard step', 'next_mixing': 'yard row'},
+    'grains': {
+        'between': 'yard one other', 'path': 'yard one other', 'shows_path': 'yard one other value',
+        'longest': 'yard one other',
+    },
+    'cuts': {
+        'bounds': 'yard spot', 'into': 'yard cut', 'out_of': 'yard cut', 'lets': 'yard lot cut',
+        'wants': 'yard lot cut', 'lets_one': 'yard spot cut', 'wants_one': 'yard spot cut',
+    },
+    'lots': {
+        'fitting': 'yard', 'shows_fitting': 'yard value', 'greatest': 'yard lot', 'shows_greatest': 'yard lot value',
+        'least': 'yard lot', 'shows_least': 'yard lot value', 'highest': 'yard spot',
+        'shows_highest': 'yard spot value', 'lowest': 'yard spot', 'shows_lowest': 'yard spot value', 'ranges': 'yard',
+    },
+}
+METHODS = {
+    'amount': 'spot', 'level': 'vessel moment', 'with_step': 'step', 'with_sample': 'sample',
+    'without_sample': 'number', 'bare': '', '__init__': 'text', '__eq__': 'other', '__len__': '', '__contains__': 'x',
+}
+
+
+def parameters(call):
+    """The names of the parameters, parted by blanks."""
+    return ' '.join(inspect.signature(call).parameters)
+
+
+class Interface(unittest.TestCase):
+    def test_functions(self):
+        for module, functions in FUNCTIONS.items():
+            found = importlib.import_module('dyedpours.' + module)
+            tree = ast.parse((FOLDER / (module + '.py')).read_text())
+            defined = [node.name for node in tree.body if isinstance(node, ast.FunctionDef)]
+            for name, told in functions.items():
+                self.assertIn(name, defined)
+                self.assertEqual(parameters(getattr(found, name)), told, name)
+
+    def test_yard(self):
+        found = importlib.import_module('dyedpours.yards').Yard
+        for name, told in METHODS.items():
+            self.assertEqual(parameters(vars(found)[name]), ('self ' + told).strip(), name)
+        made = found('vessels a')
+        for name in ('text', 'vessels', 'steps', 'samples', 'ends'):
+            self.assertIn(name, vars(made))
+
+    def test_the_package_holds_nothing_but_modules(self):
+        for path in FOLDER.iterdir():
+            self.assertTrue(path.suffix == '.py' or path.name == '__pycache__', path)
+        self.assertTrue((FOLDER / '__init__.py').exists())
+
+
+if __name__ == '__main__':
+    unittest.main()
