@@ -15,7 +15,7 @@ def every(yard):
     flow = flow_of(yard, ())
     if fault_in(yard, flow) is not None:
         return ()
-    rows = rows_of(flow, len(yard), MOST_MIXINGS + 1)
+    rows = rows_of(flow, list(range(len(yard))), MOST_MIXINGS + 1)
     if len(rows) > MOST_MIXINGS:
         raise TooMany(MOST_MIXINGS)
     return rows
@@ -30,8 +30,8 @@ def numbers_of(yard, step):
 def next_mixing(yard, row):
     """The least mixing that fits and is greater than this one; None if there is none."""
     check_fitting(yard, row)
-    flow, many = flow_by(yard, row), len(yard)
-    lows, highs = flow.lows[:many], flow.highs[:many]
-    for step in range(many):
+    flow, steps = flow_by(yard, row), list(range(len(yard)))
+    lows, highs = list(flow.lows), list(flow.highs)
+    for step in steps:
         hold(flow, step)
-    return row_of(yard, flow) if go_on(flow, lows, highs) else None
+    return row_of(yard, flow) if go_on(flow, steps, lows, highs) else None

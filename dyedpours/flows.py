@@ -29,6 +29,12 @@ class Flow:
             return self.highs[stretch] - self.along[stretch]
         return self.along[stretch] - self.lows[stretch]
 
+    def sides(self, stretch, way):
+        """Where more (way 1), or less (way -1), along this stretch goes on, and where it comes round to."""
+        if way > 0:
+            return (self.heads[stretch], self.tails[stretch])
+        return (self.tails[stretch], self.heads[stretch])
+
     def reach(self, start, goal, barred):
         """By which (stretch, way, node) more can go on from start to each node, until goal is reached.
 
@@ -51,18 +57,19 @@ class Flow:
 
         None if that could be done; otherwise what is reached, as reach tells it, when no more can be led.
         """
-        start, goal = self.heads[stretch], self.tails[stretch]
-        if way < 0:
-            start, goal = goal, start
+        start, goal = self.sides(stretch, way)
         while self.along[stretch] != aim:
             came = self.reach(start, goal, stretch)
             if came[goal] is None:
                 return came
-            trail = trail_to(came, start, goal)
-            more = min([abs(aim - self.along[stretch])] + [self.room(part, turn) for part, turn in trail])
-            for part, turn in [(stretch, way)] + trail:
-                self.along[part] += turn * more
+            self.push([(stretch, way)] + trail_to(came, start, goal), abs(aim - self.along[stretch]))
         return None
+
+    def push(self, trail, most):
+        """Lead more, so much at the most, along all of this trail of (stretch, way)."""
+        more = min([most] + [self.room(stretch, way) for stretch, way in trail])
+        for stretch, way in trail:
+            self.along[stretch] += way * more
 
 
 def trail_to(came, start, goal):

@@ -19,7 +19,7 @@ def rows_between(yard, one, other, most):
     for step in range(len(yard)):
         flow.lows[step] = min(one[step], other[step])
         flow.highs[step] = max(one[step], other[step])
-    return rows_of(flow, len(yard), most)
+    return rows_of(flow, list(range(len(yard))), most)
 
 
 def between(yard, one, other):

@@ -1,9 +1,9 @@
 """Mixings: how much of the grain that each step moves is dyed."""
 
-from dyedpours.errors import BadMoment, BadRow, NotMixing
+from dyedpours.errors import BadRow, NotMixing
 from dyedpours.forms import moved_on, vessel_taken
-from dyedpours.moves import check_spot
-from dyedpours.values import are_integers, is_within
+from dyedpours.moves import check_moment, check_spot
+from dyedpours.values import are_integers
 
 
 def room_of(yard, number, stand):
@@ -87,8 +87,7 @@ def dye(yard, row, spot):
 def stands(yard, row, moment):
     """The dye in each vessel at this moment by this mixing."""
     check_mixing(yard, row)
-    if not is_within(moment, 0, len(yard)):
-        raise BadMoment(moment)
+    check_moment(yard, moment)
     return all_stands(yard, row)[moment]
 
 

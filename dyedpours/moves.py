@@ -1,6 +1,6 @@
 """What moves: from which vessel and into which one, and which spots are the same grain."""
 
-from dyedpours.errors import BadSpot, NoEnd, NoGlass, NoStep, NoVessel
+from dyedpours.errors import BadMoment, BadSpot, NoEnd, NoGlass, NoStep, NoVessel
 from dyedpours.forms import is_spot, vessel_brought, vessel_taken
 from dyedpours.values import is_within
 
@@ -15,6 +15,18 @@ def check_spot(yard, spot):
     """BadSpot unless spot is one of the yard."""
     if not is_spot(spot, yard.vessels, len(yard)):
         raise BadSpot(spot)
+
+
+def check_moment(yard, moment):
+    """BadMoment unless moment is one of the yard."""
+    if not is_within(moment, 0, len(yard)):
+        raise BadMoment(moment)
+
+
+def check_end(yard, number):
+    """NoEnd unless number is that of an end."""
+    if not is_within(number, 0, len(yard.ends) - 1):
+        raise NoEnd(number)
 
 
 def taken(yard, number):
@@ -64,8 +76,7 @@ def still(yard, spot):
 
 def glass(yard, number):
     """The number of the step that drew the end with this number."""
-    if not is_within(number, 0, len(yard.ends) - 1):
-        raise NoEnd(number)
+    check_end(yard, number)
     if number < len(yard.vessels):
         raise NoGlass(number)
     return yard.ends[number][1]

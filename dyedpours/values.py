@@ -39,6 +39,14 @@ def are_numbers(value, many):
     return rises(value)
 
 
+def tuples_of(many):
+    """All ascending tuples of numbers of so many things, in sequence by how many they have, then as tuples."""
+    found = [()]
+    for number in range(many):
+        found = found + [row + (number,) for row in found]
+    return [row for _, row in sorted([(len(row), row) for row in found])]
+
+
 def integer_of(word):
     """The integer that Python writes as this word; None if there is none."""
     digits = word[1:] if word.startswith("-") else word

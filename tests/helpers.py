@@ -1,5 +1,6 @@
 """What several tests need: the yards of the document, odd values, and all mixings gone through one by one."""
 
+import itertools
 import random
 
 from dyedpours.errors import BadStep, Full, PourError, Told
@@ -83,6 +84,11 @@ def kept(yard, row):
     return True
 
 
+def lots_of(many):
+    """All ascending tuples of numbers of so many things, by how many they have, then as tuples."""
+    return [lot for size in range(many + 1) for lot in itertools.combinations(range(many), size)]
+
+
 def all_mixings(yard):
     """All mixings, whether they fit or not, each number of each step tried."""
     found = [((), {vessel: (0, 0) for vessel in yard.vessels})]
@@ -120,31 +126,41 @@ def fitting_ones(yard):
 
 def some_step(dice, yard, sources, most):
     """Some step, which may be none that can stand there."""
-    names = dice.sample(yard.vessels, min(2, len(yard.vessels)))
-    kinds = ('fill', 'dye') if len(yard) < sources else ('fill', 'dye') + ('pour',) * 5 + ('draw',) * 3
-    kind = dice.choice(kinds)
-    if kind == 'pour' and len(names) < 2:
-        kind = 'draw'
-    if kind in ('fill', 'dye'):
-        return (kind, names[0], dice.randint(1, most))
-    amount = dice.randint(1, max(1, min(99, yard.level(names[0], len(yard)))))
-    return ('pour', *names, amount) if kind == 'pour' else ('draw', names[0], amount)
+    level = {vessel: yard.level(vessel, len(yard)) for vessel in yard.vessels}
+    full = [vessel for vessel in yard.vessels if level[vessel] > 0]
+    if not full or len(yard) < sources or dice.random() < 0.15:
+        # Mostly into one vessel, one of a kind behind the other, so that there is something to be told apart.
+        vessel = yard.vessels[0] if dice.random() < 0.9 else dice.choice(yard.vessels)
+        kind = ('fill', 'dye')[len(yard) % 2] if dice.random() < 0.9 else dice.choice(('fill', 'dye'))
+        return (kind, vessel, dice.randint(1, most))
+    vessel = max(full, key=level.get) if dice.random() < 0.5 else dice.choice(full)
+    amount = dice.randint(1, min(99, max(1, level[vessel] - dice.choice((0, 1, 1)))))
+    others = [other for other in yard.vessels if other != vessel]
+    if others and dice.random() < 0.65:
+        return ('pour', vessel, dice.choice(others), amount)
+    return ('draw', vessel, amount)
+
+
+def some_sample(dice, yard, rows):
+    """Some sample, mostly one that the last one of some mixings keeps."""
+    spot = dice.choice(all_spots(yard))
+    number = spot_dye(yard, dice.choice(rows[-3:]), spot) + dice.choice((0, 0, 0, 0, 0, 0, 1, -1))
+    return (dice.choice(('is', 'least', 'most')), max(0, number), spot)
 
 
 def some_yard(dice, vessels, steps, most, samples):
     """Some yard, with so many steps, and amounts of sources so great, at the most."""
     yard = Yard('vessels ' + ' '.join(dice.sample(('a', 'b', 'c', 'zz', 'by', 'fill'), vessels)))
-    sources = dice.randint(1, max(1, steps // 2))
+    sources = dice.choice((1, 2, 2, 2, 2, 3))
     for _ in range(steps * 3):
         try:
             yard = yard.with_step(some_step(dice, yard, sources, most)) if len(yard) < steps else yard
         except BadStep:
             pass
+    rows = all_mixings(yard) if samples else []
     for _ in range(samples if len(yard) else 0):
-        spot = dice.choice(all_spots(yard))
-        number = dice.randint(0, yard.amount(spot) + (dice.random() < 0.1))
         try:
-            yard = yard.with_sample((dice.choice(('is', 'least', 'most')), number, spot))
+            yard = yard.with_sample(some_sample(dice, yard, rows))
         except (Told, Full):
             pass
     return yard
@@ -155,6 +171,6 @@ def some_yards(seed, many):
     dice = random.Random(seed)
     yards = []
     for _ in range(many):
-        vessels, steps = dice.randint(1, 4), dice.randint(0, 7)
+        vessels, steps = dice.randint(1, 4), dice.choice((0, 1, 2, 3, 4, 5, 5, 6, 6, 7, 7))
         yards.append(some_yard(dice, vessels, steps, dice.choice((2, 4, 6)), dice.choice((0, 0, 1, 2, 4))))
     return yards

@@ -35,6 +35,33 @@ FUNCTIONS = {
         'least': 'yard lot', 'shows_least': 'yard lot value', 'highest': 'yard spot',
         'shows_highest': 'yard spot value', 'lowest': 'yard spot', 'shows_lowest': 'yard spot value', 'ranges': 'yard',
     },
+    'tables': {'holders': 'yard moment', 'most_at': 'yard moment lot', 'table': 'yard moment'},
+    'standing': {
+        'can_stand': 'yard moment dyes', 'shows_can_stand': 'yard moment dyes value', 'standings': 'yard moment',
+    },
+    'heights': {
+        'worth': 'yard row weights', 'slope': 'yard weights heights spot', 'borne': 'yard weights heights',
+        'least_worth': 'yard weights', 'shows_least_worth': 'yard weights value', 'greatest_worth': 'yard weights',
+        'shows_greatest_worth': 'yard weights value',
+    },
+    'differences': {
+        'weights_of': 'yard spot', 'difference': 'yard one other', 'together': 'yard spots', 'fixed': 'yard',
+        'alike': 'yard one other', 'shows_alike': 'yard one other value',
+    },
+    'sure': {'sure': 'yard claim', 'shows_sure': 'yard claim value', 'sure_dye': 'yard', 'clean': 'yard'},
+    'needless': {
+        'by_samples': 'yard numbers', 'needless': 'yard', 'thinned': 'yard', 'within': 'one other',
+        'shows_within': 'one other value',
+    },
+    'quarrels': {
+        'quarrels': 'yard', 'torn': 'yard numbers', 'shows_torn': 'yard numbers value', 'mended': 'yard',
+        'shows_mended': 'yard value', 'blamed': 'yard',
+    },
+    'sources': {
+        'washed': 'yard marks', 'alone': 'yard number', 'share': 'yard marks lot', 'sources': 'yard number',
+        'reached': 'yard number', 'pairs_of': 'yard', 'led': 'yard number end', 'shows_led': 'yard number end value',
+    },
+    'backward': {'backward': 'yard lot', 'turned_end': 'yard number', 'turned_mixing': 'yard lot marks row'},
 }
 METHODS = {
     'amount': 'spot', 'level': 'vessel moment', 'with_step': 'step', 'with_sample': 'sample',

@@ -24,8 +24,11 @@ UNUSED = (
 )
 BARRED = re.compile(
     r'\b(type|typing|typing_extensions|enum|Enum|IntEnum|StrEnum|Flag|IntFlag|Generic|Protocol|ABC|ABCMeta|namedtuple|'
-    r'NamedTuple|TypedDict|TYPE_CHECKING|abstractmethod|register|mro|elements|open|input|law|compile|exit|id|dir|'
-    r'vars|help|eval|exec|os|gc|super|hash|format)\b'
+    r'NamedTuple|TypedDict|TYPE_CHECKING|abstractmethod)\b|dataclass|overload|contextmanager'
+)
+NO_NAMES = set(
+    'register mro elements open input law version_info with_traceback add_note compile exit id dir vars help eval exec '
+    'os gc super hash format'.split()
 )
 
 
@@ -129,6 +132,15 @@ class Language(unittest.TestCase):
             known = set(bound) | taken | set(defined_in(module)) | BUILTINS
             for node in of_kind(module, ast.Name):
                 self.assertIn(node.id, known, module)
+
+    def test_names_that_are_not_used(self):
+        for module in FILES:
+            nodes = parts(module)
+            names = [node.id for node in nodes if isinstance(node, ast.Name)]
+            names += [node.attr for node in nodes if isinstance(node, ast.Attribute)]
+            names += [node.arg for node in nodes if isinstance(node, (ast.arg, ast.keyword))]
+            names += defined_in(module) + list(imports_of(module))
+            self.assertEqual(set(names) & NO_NAMES, set(), module)
 
     def test_methods(self):
         own = {node.name for module in FILES for node in of_kind(module, ast.FunctionDef)}
