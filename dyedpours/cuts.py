@@ -57,9 +57,14 @@ def check_cut(yard, cut):
         raise BadCut(cut)
 
 
+def is_lot(yard, value):
+    """Whether any value is a lot of the yard."""
+    return are_numbers(value, len(yard.ends))
+
+
 def check_lot(yard, lot):
     """BadLot unless lot is one of the yard."""
-    if not are_numbers(lot, len(yard.ends)):
+    if not is_lot(yard, lot):
         raise BadLot(lot)
 
 

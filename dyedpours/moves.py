@@ -86,3 +86,8 @@ def end_of(yard, spot):
     """The number of the end that is this spot; None if it is none."""
     check_spot(yard, spot)
     return yard.ends.index(spot) if spot in yard.ends else None
+
+
+def end_amounts(yard):
+    """How much each end is; nothing without steps, where the ends are no spots."""
+    return tuple([yard.amount(end) if len(yard) > 0 else 0 for end in yard.ends])

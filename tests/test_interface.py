@@ -62,6 +62,24 @@ FUNCTIONS = {
         'reached': 'yard number', 'pairs_of': 'yard', 'led': 'yard number end', 'shows_led': 'yard number end value',
     },
     'backward': {'backward': 'yard lot', 'turned_end': 'yard number', 'turned_mixing': 'yard lot marks row'},
+    'leaks': {
+        'others_of': 'yard lot', 'leak': 'yard lot', 'least_caught': 'yard lot', 'waste': 'yard lot', 'safe': 'yard',
+        'sure_ends': 'yard', 'worst': 'yard',
+    },
+    'recalls': {
+        'holds': 'yard lot most', 'shows_holds': 'yard lot most value', 'holding': 'yard most', 'vital': 'yard most',
+        'fewest': 'yard most', 'shows_fewest': 'yard most value', 'cheapest_lot': 'yard prices most',
+        'shows_cheapest_lot': 'yard prices most value',
+    },
+    'questions': {
+        'answer': 'yard row question', 'known': 'yard question', 'left_by': 'yard answers',
+        'shows_left_by': 'yard answers value', 'tells': 'yard spot question', 'shows_tells': 'yard spot question value',
+        'tellers': 'yard question',
+    },
+    'asking': {
+        'asks': 'yard questions aim', 'shows_asks': 'yard questions aim value', 'wanted': 'yard questions aim',
+    },
+    'rounds': {'again': 'yard block many', 'turns': 'yard block', 'until': 'yard block lot most'},
 }
 METHODS = {
     'amount': 'spot', 'level': 'vessel moment', 'with_step': 'step', 'with_sample': 'sample',
