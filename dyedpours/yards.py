@@ -10,15 +10,18 @@ MOST_SAMPLES = 6
 MOST_ENDS = 9
 
 
+def are_vessels(value):
+    """Whether any value is a tuple of one to six unlike names."""
+    if not isinstance(value, tuple) or not 1 <= len(value) <= MOST_VESSELS:
+        return False
+    return all([is_name(name) for name in value]) and len(set(value)) == len(value)
+
+
 def vessels_in(line):
     """The vessels that this line tells; None if it is no line of vessels."""
     words = line.split(" ")
-    names = words[1:]
-    if words[0] != "vessels" or not 1 <= len(names) <= MOST_VESSELS:
-        return None
-    if not all([is_name(name) for name in names]) or len(set(names)) < len(names):
-        return None
-    return tuple(names)
+    names = tuple(words[1:])
+    return names if words[0] == "vessels" and are_vessels(names) else None
 
 
 def drawn(steps):
@@ -34,6 +37,16 @@ def next_level(vessels, steps, level, step):
         return None
     behind = moved_on(vessels, level, step, step[-1])
     return behind if min(behind) >= 0 else None
+
+
+def stand_so(vessels, steps):
+    """Whether these can be all steps of a yard, one behind the other."""
+    level = (0,) * len(vessels)
+    for number, step in enumerate(steps):
+        level = next_level(vessels, steps[:number], level, step)
+        if level is None:
+            return False
+    return len(steps) <= MOST_STEPS
 
 
 def read_yard(text):
@@ -58,9 +71,14 @@ def read_yard(text):
     return (vessels, tuple(steps), tuple(samples), tuple(levels))
 
 
+def vessels_line(vessels):
+    """The line of these vessels."""
+    return " ".join(["vessels"] + list(vessels))
+
+
 def yard_of(vessels, steps, samples):
     """The Yard that these tell."""
-    lines = [" ".join(["vessels"] + list(vessels))]
+    lines = [vessels_line(vessels)]
     lines.extend([step_line(step) for step in steps])
     lines.extend([sample_line(sample) for sample in samples])
     return Yard("\n".join(lines))

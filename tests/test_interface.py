@@ -79,12 +79,34 @@ FUNCTIONS = {
     'asking': {
         'asks': 'yard questions aim', 'shows_asks': 'yard questions aim value', 'wanted': 'yard questions aim',
     },
+    'beside': {
+        'less_than': 'one other', 'shows_less_than': 'one other value', 'even': 'one other',
+        'shows_even': 'one other value', 'harmless': 'yard', 'outcome': 'yard row',
+    },
+    'changing': {
+        'by_choice': 'yard offers choice', 'cheapest': 'yard offers wishes',
+        'shows_cheapest': 'yard offers wishes value',
+    },
+    'journals': {'journal': 'wharf', 'read_journal': 'text'},
     'rounds': {'again': 'yard block many', 'turns': 'yard block', 'until': 'yard block lot most'},
 }
 METHODS = {
-    'amount': 'spot', 'level': 'vessel moment', 'with_step': 'step', 'with_sample': 'sample',
-    'without_sample': 'number', 'bare': '', '__init__': 'text', '__eq__': 'other', '__len__': '', '__contains__': 'x',
+    ('yards', 'Yard'): {
+        'amount': 'spot', 'level': 'vessel moment', 'with_step': 'step', 'with_sample': 'sample',
+        'without_sample': 'number', 'bare': '', '__init__': 'text', '__eq__': 'other', '__len__': '', '__contains__': 'x',
+    },
+    ('wharves', 'Wharf'): {
+        'most': 'spot', 'least': 'spot', 'now': 'vessel', 'fill': 'vessel amount', 'dye': 'vessel amount',
+        'pour': 'one other amount', 'draw': 'vessel amount', 'sample': 'word number spot', 'undo': '', 'redo': '',
+        'trial': '', 'keep': '', 'tried': 'look keep', 'copy': '', '__init__': 'vessels', '__eq__': 'other',
+        '__len__': '', '__contains__': 'x',
+    },
+    ('desk', 'Desk'): {'say': 'line', '__init__': 'text'},
 }
+ATTRIBUTES = (
+    ('yards', 'Yard', 'vessels a', 'text vessels steps samples ends'), ('wharves', 'Wharf', ('a',), 'yard vessels done'),
+    ('desk', 'Desk', 'vessels a', 'wharf'),
+)
 
 
 def parameters(call):
@@ -102,13 +124,20 @@ class Interface(unittest.TestCase):
                 self.assertIn(name, defined)
                 self.assertEqual(parameters(getattr(found, name)), told, name)
 
-    def test_yard(self):
-        found = importlib.import_module('dyedpours.yards').Yard
-        for name, told in METHODS.items():
-            self.assertEqual(parameters(vars(found)[name]), ('self ' + told).strip(), name)
-        made = found('vessels a')
-        for name in ('text', 'vessels', 'steps', 'samples', 'ends'):
-            self.assertIn(name, vars(made))
+    def test_methods(self):
+        for (module, its), methods in METHODS.items():
+            found = getattr(importlib.import_module('dyedpours.' + module), its)
+            self.assertEqual(found.__module__, 'dyedpours.' + module)
+            for name, told in methods.items():
+                self.assertEqual(parameters(vars(found)[name]), ('self ' + told).strip(), name)
+        tried = inspect.signature(importlib.import_module('dyedpours.wharves').Wharf.tried).parameters
+        self.assertEqual((tried['keep'].kind, tried['keep'].default), (inspect.Parameter.KEYWORD_ONLY, False))
+
+    def test_attributes(self):
+        for module, its, argument, names in ATTRIBUTES:
+            made = getattr(importlib.import_module('dyedpours.' + module), its)(argument)
+            for name in names.split(' '):
+                self.assertIn(name, vars(made))
 
     def test_the_package_holds_nothing_but_modules(self):
         for path in FOLDER.iterdir():

@@ -22,6 +22,7 @@ UNUSED = (
     ast.Yield, ast.YieldFrom, ast.Import, ast.Match, ast.NamedExpr, ast.Div, ast.Delete, ast.Starred, ast.AnnAssign,
     ast.Mod, ast.Pow,
 )
+USED = {'journals': ['Try'], 'wharves': ['With']}
 BARRED = re.compile(
     r'\b(type|typing|typing_extensions|enum|Enum|IntEnum|StrEnum|Flag|IntFlag|Generic|Protocol|ABC|ABCMeta|namedtuple|'
     r'NamedTuple|TypedDict|TYPE_CHECKING|abstractmethod)\b|dataclass|overload|contextmanager'
@@ -103,7 +104,10 @@ class Language(unittest.TestCase):
 
     def test_nodes_and_signs_that_are_not_used(self):
         for module in FILES:
-            self.assertEqual([type(node).__name__ for node in of_kind(module, *UNUSED)], [], module)
+            self.assertEqual([type(node).__name__ for node in of_kind(module, *UNUSED)], USED.get(module, []), module)
+            for node in of_kind(module, ast.Try):
+                self.assertEqual([ast.unparse(handler.type) for handler in node.handlers], ['PourError'])
+                self.assertEqual(node.finalbody, [])
             for node in of_kind(module, ast.Constant):
                 self.assertIsInstance(node.value, (int, str, type(None)))
                 self.assertNotIn('%', str(node.value))
@@ -141,6 +145,13 @@ class Language(unittest.TestCase):
             names += [node.arg for node in nodes if isinstance(node, (ast.arg, ast.keyword))]
             names += defined_in(module) + list(imports_of(module))
             self.assertEqual(set(names) & NO_NAMES, set(), module)
+
+    def test_what_ends_a_block(self):
+        found = [node for module in FILES for node in of_kind(module, ast.FunctionDef) if node.name == '__exit__']
+        self.assertEqual([ast.unparse(node.args) for node in found], ['self, kind, value, trace'])
+        rows = [row for row in ast.walk(found[0]) if isinstance(row, ast.stmt) and row is not found[0]]
+        for row in rows:
+            self.assertRegex(ast.unparse(row), r'^if kind is not None or self\.kept is None:|^wharf(\.[a-z]+)? = self\.[a-z]+$')
 
     def test_methods(self):
         own = {node.name for module in FILES for node in of_kind(module, ast.FunctionDef)}
