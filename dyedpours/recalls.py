@@ -70,11 +70,12 @@ def is_barred(lot, bars):
 
 def bar_of(yard, lot, most, row):
     """A bar by this row, with all ends beside this lot, one behind the other, with which the rest has too much."""
+    barred = lot
     for number in others_of(yard, lot):
-        wider = lot_with(lot, number)
+        wider = lot_with(barred, number)
         if rest_dye(yard, wider, row) > most:
-            lot = wider
-    return (lot, row)
+            barred = wider
+    return (barred, row)
 
 
 def holding(yard, most):
@@ -164,8 +165,8 @@ def price_of(prices, lot):
 
 def by_price(prices):
     """All lots of ends with these prices, by what they cost, then in sequence."""
-    lots = sorted([(price_of(prices, lot), len(lot), lot) for lot in tuples_of(len(prices))])
-    return [lot for _, _, lot in lots]
+    ranked = sorted([(price_of(prices, lot), len(lot), lot) for lot in tuples_of(len(prices))])
+    return [part[2] for part in ranked]
 
 
 def cheapest_lot(yard, prices, most):
