@@ -198,7 +198,7 @@ class Cheapest(unittest.TestCase):
                 told = list(cheapest(yard, offers, wishes))
                 at = dice.randrange(len(told[-1]) + 1)
                 if at < len(told[-1]):
-                    choice, number, row = told[-1][at]
+                    choice = told[-1][at][0]
                     rows = all_mixings(changed(yard, offers, choice))
                     reason = (choice, dice.randrange(len(wishes)), dice.choice(rows))
                     told[-1] = told[-1][:at] + (reason,) + told[-1][at + 1:]
@@ -251,7 +251,7 @@ class Cheapest(unittest.TestCase):
 class Shows(unittest.TestCase):
     def test_nothing_else(self):
         told = cheapest(YARD, OFFERS, WISHES)
-        _, price, choice, cuts, reasons = told
+        choice, cuts, reasons = told[2:]
         gives(self, True, shows_cheapest, YARD, OFFERS, WISHES, told)
         self.assertEqual([its for its, _, _ in reasons], [(), (0,)])
         first, second = reasons
@@ -295,7 +295,7 @@ class Shows(unittest.TestCase):
             ('none', reasons, 0), ('choice', 0, (), ((), ()), ()), ('choice', 5, (1,), ((), ()), reasons[:2]),
         ) + tuple((value, reasons) for value in ODD) + tuple(('none', value) for value in ODD):
             gives(self, False, shows_cheapest, YARD, OFFERS, wishes, value)
-        for at, (choice, number, row) in enumerate(reasons):
+        for at, (choice, _, row) in enumerate(reasons):
             for its in (0, 1, 2, True, -1):
                 value = reasons[:at] + ((choice, its, row),) + reasons[at + 1:]
                 right = its in (0, 1) and its is not True and row in lacks(changed(YARD, OFFERS, choice), wishes[its])

@@ -8,7 +8,7 @@ from dyedpours.mixings import broken, dye, eager, judged, shy, stands
 from dyedpours.moves import all_spots
 from dyedpours.yards import Yard
 from tests.helpers import (
-    EMPTY, LARGE, NONE, ODD, TWO, YARD, all_mixings, gives, kept, raises, some_yards, spot_dye,
+    EMPTY, LARGE, NONE, ODD, YARD, all_mixings, gives, kept, raises, some_yards, spot_dye,
 )
 
 ROW = (0, 4, 2, 2, 0)
